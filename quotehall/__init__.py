@@ -1,0 +1,1 @@
+"""Quotehall: pieces of programs, made by programs."""
