@@ -39,10 +39,7 @@ def depth_of(term):
 
 def loose_in(term):
     """The names that mean no binder within a term, each once, in the order in which they stand there."""
-    loose = []
-    for head, places in rows_of(term):
-        loose.append(loose_names(head, [loose[place] for place in places]))
-    return loose[-1]
+    return loose_in_rows(rows_of(term))[-1]
 
 
 def bare(term):
@@ -51,6 +48,14 @@ def bare(term):
     for head, places in rows_of(term):
         terms.append(bare_term(head, [terms[place] for place in places]))
     return terms[-1]
+
+
+def loose_in_rows(rows):
+    """For each row the names that are loose in its term."""
+    loose = []
+    for head, places in rows:
+        loose.append(loose_names(head, [loose[place] for place in places]))
+    return loose
 
 
 def loose_names(head, loose_in_parts):

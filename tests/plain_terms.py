@@ -54,6 +54,13 @@ def bare(term):
     return head + tuple(bare(part) for part in parts(term))
 
 
+def short(term, deep=6):
+    """The outermost of a term, for a failure's message: written out whole, some terms would fill the memory."""
+    if deep == 0:
+        return ("..",)
+    return term[:PARTS_AT[term[0]]] + tuple(short(part, deep - 1) for part in parts(term))
+
+
 def some_term(rng, deep, pool):
     """A term at most so deep, now and then one that stands elsewhere too."""
     if pool and rng.random() < 0.2:
